@@ -1,0 +1,72 @@
+// Package batch says what a batch is, and when it is within limits.
+package batch
+
+import (
+	"cmp"
+	"slices"
+	"strings"
+
+	"choir/api"
+)
+
+// Check answers ErrBatch, ErrLimit or OK. All of b is looked at for ErrBatch ahead of any limit, because that error is named first.
+func Check(b []api.Series) api.Errno {
+	if !isBatch(b) {
+		return api.ErrBatch
+	}
+	if !withinLimits(b) {
+		return api.ErrLimit
+	}
+	return api.OK
+}
+
+// CompareLabels answers below 0, 0 or above 0, as a is less than, the same as or greater than b.
+func CompareLabels(a, b []api.Label) int {
+	return slices.CompareFunc(a, b, compareLabel)
+}
+
+func compareLabel(a, b api.Label) int {
+	return cmp.Or(strings.Compare(a.Key, b.Key), strings.Compare(a.Value, b.Value))
+}
+
+func isBatch(b []api.Series) bool {
+	for i, s := range b {
+		if !areLabels(s.Labels) || !areSamples(s.Samples) {
+			return false
+		}
+		if i > 0 && CompareLabels(b[i-1].Labels, s.Labels) >= 0 {
+			return false
+		}
+	}
+	return true
+}
+
+func areLabels(labels []api.Label) bool {
+	for i, l := range labels {
+		if l.Key == "" || len(l.Key) > api.MaxText || len(l.Value) > api.MaxText {
+			return false
+		}
+		if i > 0 && labels[i-1].Key >= l.Key {
+			return false
+		}
+	}
+	return true
+}
+
+func areSamples(samples []api.Sample) bool {
+	for i, s := range samples {
+		if i > 0 && samples[i-1].Time >= s.Time {
+			return false
+		}
+	}
+	return len(samples) > 0
+}
+
+func withinLimits(b []api.Series) bool {
+	for _, s := range b {
+		if len(s.Labels) > api.MaxLabels || len(s.Samples) > api.MaxSamples {
+			return false
+		}
+	}
+	return len(b) <= api.MaxSeries
+}
