@@ -9,13 +9,17 @@ import (
 	"choir/api"
 )
 
-// Check answers ErrBatch, ErrLimit or OK. All of b is looked at for ErrBatch ahead of any limit, because that error is named first.
-func Check(b []api.Series) api.Errno {
-	if !isBatch(b) {
-		return api.ErrBatch
+// Check answers ErrBatch, ErrLimit or OK. All that is given is looked at for ErrBatch ahead of any limit, because that error is named first.
+func Check(batches ...[]api.Series) api.Errno {
+	for _, b := range batches {
+		if !isBatch(b) {
+			return api.ErrBatch
+		}
 	}
-	if !withinLimits(b) {
-		return api.ErrLimit
+	for _, b := range batches {
+		if !withinLimits(b) {
+			return api.ErrLimit
+		}
 	}
 	return api.OK
 }

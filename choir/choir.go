@@ -5,6 +5,7 @@ import (
 	"choir/api"
 	"choir/batch"
 	"choir/frame"
+	"choir/join"
 )
 
 // Encode packs a batch (P3).
@@ -25,10 +26,29 @@ func Decode(s string) ([]api.Series, api.Errno) {
 }
 
 // Join brings two batches together (P5).
-func Join(a []api.Series, b []api.Series) ([]api.Series, api.Errno) { return nil, api.OK }
+func Join(a []api.Series, b []api.Series) ([]api.Series, api.Errno) {
+	if e := batch.Check(a, b); e != api.OK {
+		return nil, e
+	}
+	return join.All(a, b)
+}
 
 // Merge brings any number of packed batches together (P6).
-func Merge(frames ...string) (string, api.Errno) { return "", api.OK }
+func Merge(frames ...string) (string, api.Errno) {
+	batches := make([][]api.Series, 0, len(frames))
+	for _, s := range frames {
+		b, ok := frame.Unpack(s)
+		if !ok {
+			return "", api.ErrFrame
+		}
+		batches = append(batches, b)
+	}
+	joined, e := join.All(batches...)
+	if e != api.OK {
+		return "", e
+	}
+	return frame.Pack(joined), api.OK
+}
 
 // Cluster is three replicas, and what is under way between them.
 type Cluster struct{}

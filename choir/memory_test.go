@@ -1,7 +1,10 @@
 package choir_test
 
 import (
+	"slices"
+	"strings"
 	"testing"
+	"unsafe"
 
 	"choir/api"
 	"choir/choir"
@@ -86,5 +89,68 @@ func TestDecodedIsNewMemory(t *testing.T) {
 			}
 		}
 		encodesTo(t, want, s)
+	}
+}
+
+func TestJoinWritesNothing(t *testing.T) {
+	bad := append(two(), api.Series{})
+	for _, c := range [][2][]api.Series{{two(), two()}, {two(), keyed(0, 3)}, {fullest(), fullest()}, {fullest(), two()}, {two(), bad}, {nil, two()}} {
+		a, b := roomy(c[0]), roomy(c[1])
+		choir.Join(a, b)
+		choir.Join(b, a)
+		choir.Join(a, a)
+		if !same(a, c[0]) || !same(b, c[1]) {
+			t.Errorf("P2: %v, %v have become %v, %v", c[0], c[1], a, b)
+		}
+		unspoilt(t, a)
+		unspoilt(t, b)
+	}
+}
+
+func TestJoinedIsNewMemory(t *testing.T) {
+	for _, c := range [][2][]api.Series{{two(), nil}, {nil, two()}, {two(), two()}, {two(), keyed(0, 3)}, {fullest(), fullest()[2:4]}} {
+		want := modelJoin(c[0], c[1])
+		for i := range want {
+			a, b := roomy(c[0]), roomy(c[1])
+			got, _ := choir.Join(a, b)
+			other, _ := choir.Join(a, b)
+			overwrite(other)
+			if !same(a, c[0]) || !same(b, c[1]) {
+				t.Fatalf("P2: the join shares memory with %v or %v", a, b)
+			}
+			unspoilt(t, a)
+			unspoilt(t, b)
+			overwrite(a)
+			overwrite(b)
+			if !same(got, want) {
+				t.Fatalf("P2: one answer, or what was handed in, changes another: %v", got)
+			}
+			overwrite(got[i : i+1 : i+1])
+			got[i] = want[i]
+			if !same(got, want) {
+				t.Errorf("P2: series %d shares memory with another: %v", i, got)
+			}
+		}
+	}
+}
+
+// Joined labels hold on to none of the texts that were handed in.
+func TestJoinedTextsAreNew(t *testing.T) {
+	key, value := strings.Repeat("k", 3), strings.Repeat("v", 3)
+	got, _ := choir.Join([]api.Series{labelled(api.Label{Key: key, Value: value})}, nil)
+	l := got[0].Labels[0]
+	if unsafe.StringData(l.Key) == unsafe.StringData(key) || unsafe.StringData(l.Value) == unsafe.StringData(value) {
+		t.Error("P2: a text of the join is one that was handed in")
+	}
+}
+
+func TestMergeWritesNothing(t *testing.T) {
+	a, b := modelFrame(two()), modelFrame(keyed(0, 3))
+	for _, frames := range [][]string{{a, b, a, "spare"}, {b, "x", a, "spare"}} {
+		given := append([]string{}, frames...)
+		choir.Merge(given[:3]...)
+		if !slices.Equal(given, frames) {
+			t.Errorf("P2: %x has become %x", frames, given)
+		}
 	}
 }
