@@ -72,6 +72,16 @@ func overwrite(b []api.Series) {
 	clear(b[:cap(b)])
 }
 
+// standsAlone: the lists of series i, and the room behind them, are no other list's.
+func standsAlone(t *testing.T, got, want []api.Series, i int) {
+	t.Helper()
+	overwrite(got[i : i+1 : i+1])
+	got[i] = want[i]
+	if !same(got, want) {
+		t.Errorf("P2: series %d shares memory with another: %v", i, got)
+	}
+}
+
 func TestDecodedIsNewMemory(t *testing.T) {
 	for _, want := range [][]api.Series{two(), fullest()} {
 		s := modelFrame(want)
@@ -82,11 +92,7 @@ func TestDecodedIsNewMemory(t *testing.T) {
 			if !same(got, want) {
 				t.Fatalf("P2: one answer changes another: %v", got)
 			}
-			overwrite(got[i : i+1 : i+1])
-			got[i] = want[i]
-			if !same(got, want) {
-				t.Errorf("P2: series %d shares memory with another: %v", i, got)
-			}
+			standsAlone(t, got, want, i)
 		}
 		encodesTo(t, want, s)
 	}
@@ -125,11 +131,7 @@ func TestJoinedIsNewMemory(t *testing.T) {
 			if !same(got, want) {
 				t.Fatalf("P2: one answer, or what was handed in, changes another: %v", got)
 			}
-			overwrite(got[i : i+1 : i+1])
-			got[i] = want[i]
-			if !same(got, want) {
-				t.Errorf("P2: series %d shares memory with another: %v", i, got)
-			}
+			standsAlone(t, got, want, i)
 		}
 	}
 }
