@@ -33,6 +33,22 @@ func compareLabel(a, b api.Label) int {
 	return cmp.Or(strings.Compare(a.Key, b.Key), strings.Compare(a.Value, b.Value))
 }
 
+// Same: are they the same, series by series? A list without elements is the same as none.
+func Same(a, b []api.Series) bool { return slices.EqualFunc(a, b, sameSeries) }
+
+func sameSeries(a, b api.Series) bool {
+	return slices.Equal(a.Labels, b.Labels) && slices.Equal(a.Samples, b.Samples)
+}
+
+// CopyLabels copies the texts too, for a copy must not hold on to a greater text of which they are a part.
+func CopyLabels(labels []api.Label) []api.Label {
+	copied := make([]api.Label, 0, len(labels))
+	for _, l := range labels {
+		copied = append(copied, api.Label{Key: strings.Clone(l.Key), Value: strings.Clone(l.Value)})
+	}
+	return copied
+}
+
 func isBatch(b []api.Series) bool {
 	for i, s := range b {
 		if !areLabels(s.Labels) || !areSamples(s.Samples) {

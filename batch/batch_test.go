@@ -31,3 +31,25 @@ func TestCompareLabels(t *testing.T) {
 		}
 	}
 }
+
+func TestSame(t *testing.T) {
+	of := func(key string, time int, bits uint64) []api.Series {
+		return []api.Series{{Labels: []api.Label{{Key: key}}, Samples: []api.Sample{{Time: time, Bits: bits}}}}
+	}
+	different := [][]api.Series{
+		nil, of("a", 1, 1), of("b", 1, 1), of("a", 2, 1), of("a", 1, 2), append(of("a", 1, 1), of("b", 1, 1)...),
+		{{Samples: []api.Sample{{Time: 1, Bits: 1}}}}, {{Samples: []api.Sample{{Time: 1, Bits: 1}, {Time: 2}}}},
+		{{Labels: []api.Label{{Key: "a", Value: "v"}}, Samples: []api.Sample{{Time: 1, Bits: 1}}}},
+	}
+	for i, a := range different {
+		for k, b := range different {
+			if Same(a, b) != (i == k) {
+				t.Errorf("%v and %v", a, b)
+			}
+		}
+	}
+	none := []api.Series{{Labels: []api.Label{}, Samples: []api.Sample{{Time: 1, Bits: 1}}}}
+	if !Same(nil, []api.Series{}) || !Same(none, different[6]) {
+		t.Error("a list without elements is not the same as none")
+	}
+}

@@ -43,6 +43,33 @@ func Unpack(s string) ([]api.Series, bool) {
 	return b, true
 }
 
+// UnpackRow answers the batches of the longest beginning of s that is frames, one behind the other, and how many bytes that beginning has.
+func UnpackRow(s string) ([][]api.Series, int) {
+	var batches [][]api.Series
+	size := 0
+	for {
+		first := firstFrame(s[size:])
+		b, ok := Unpack(first)
+		if !ok {
+			return batches, size
+		}
+		batches = append(batches, b)
+		size += len(first)
+	}
+}
+
+// firstFrame answers the only beginning of s that can be a frame, for a frame's head tells its length; nothing, if there is none.
+func firstFrame(s string) string {
+	if len(s) < headSize {
+		return ""
+	}
+	size := headSize + payloadSize(s) + sumSize
+	if len(s) < size {
+		return ""
+	}
+	return s[:size]
+}
+
 // open answers the payload, if what stands around it is right.
 func open(s string) (string, bool) {
 	end := len(s) - sumSize

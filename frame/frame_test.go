@@ -4,6 +4,9 @@ import (
 	"hash/crc32"
 	"strings"
 	"testing"
+
+	"choir/api"
+	"choir/batch"
 )
 
 func TestSum(t *testing.T) {
@@ -50,5 +53,44 @@ func TestBitReaderStaysBroken(t *testing.T) {
 	}
 	if r.take(4); r.state != broken {
 		t.Error("it reads on")
+	}
+}
+
+func TestUnpackRow(t *testing.T) {
+	one := []api.Series{{Samples: []api.Sample{{Time: 1, Bits: 2}}}}
+	other := []api.Series{{Labels: []api.Label{{Key: "a", Value: "b"}}, Samples: []api.Sample{{Time: 3}, {Time: 4}}}}
+	batches := [][]api.Series{one, other, nil, one}
+	all := ""
+	ends := []int{0}
+	for _, b := range batches {
+		all += Pack(b)
+		ends = append(ends, len(all))
+	}
+	for cut := range len(all) + 1 {
+		// What comes behind the cut must not matter, but where it is a frame again.
+		for _, behind := range []string{"", "C", "CH\x01\xff\xff\xff\xff", "CH\x01\x80\x00\x00\x00\x00\x00\x00\x00\x00"} {
+			got, size := UnpackRow(all[:cut] + behind)
+			count := 0
+			for count < len(batches) && ends[count+1] <= cut {
+				count++
+			}
+			if size != ends[count] || len(got) != count {
+				t.Fatalf("%d bytes and %x: %d batches of %d bytes", cut, behind, len(got), size)
+			}
+			for i, b := range got {
+				if !batch.Same(b, batches[i]) {
+					t.Errorf("batch %d: %v", i, b)
+				}
+			}
+		}
+	}
+	// One that is no frame ends the row, whole ones behind it or not.
+	spoilt := "x" + all[1:]
+	if got, size := UnpackRow(spoilt); len(got) != 0 || size != 0 {
+		t.Errorf("%d batches of %d bytes", len(got), size)
+	}
+	middle := all[:ends[1]+8] + "x" + all[ends[1]+9:]
+	if got, size := UnpackRow(middle); len(got) != 1 || size != ends[1] {
+		t.Errorf("%d batches of %d bytes", len(got), size)
 	}
 }

@@ -22,6 +22,22 @@ func textsOf(b []api.Series) []string {
 	return slices.Compact(texts)
 }
 
+// numbers are those of a label's key and value among the texts.
+type numbers struct{ key, value int }
+
+// numbersOf finds the numbers of every label once, however many series have it.
+func numbersOf(b []api.Series, texts []string) map[api.Label]numbers {
+	found := make(map[api.Label]numbers)
+	for _, s := range b {
+		for _, l := range s.Labels {
+			if _, ok := found[l]; !ok {
+				found[l] = numbers{key: numberOf(texts, l.Key), value: numberOf(texts, l.Value)}
+			}
+		}
+	}
+	return found
+}
+
 func packPayload(b []api.Series) []byte {
 	texts := textsOf(b)
 	out := appendVarint(nil, len(texts))
@@ -29,18 +45,20 @@ func packPayload(b []api.Series) []byte {
 		out = appendVarint(out, len(text))
 		out = append(out, text...)
 	}
+	labels := numbersOf(b, texts)
 	out = appendVarint(out, len(b))
 	for _, s := range b {
-		out = appendSeries(out, texts, s)
+		out = appendSeries(out, labels, s)
 	}
 	return out
 }
 
-func appendSeries(out []byte, texts []string, s api.Series) []byte {
+func appendSeries(out []byte, labels map[api.Label]numbers, s api.Series) []byte {
 	out = appendVarint(out, len(s.Labels))
 	for _, l := range s.Labels {
-		out = appendVarint(out, numberOf(texts, l.Key))
-		out = appendVarint(out, numberOf(texts, l.Value))
+		n := labels[l]
+		out = appendVarint(out, n.key)
+		out = appendVarint(out, n.value)
 	}
 	chunk := packChunk(s.Samples)
 	out = appendVarint(out, len(s.Samples))

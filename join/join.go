@@ -4,7 +4,6 @@ package join
 import (
 	"cmp"
 	"slices"
-	"strings"
 
 	"choir/api"
 	"choir/batch"
@@ -34,7 +33,7 @@ func joinSeries(alike []api.Series) api.Series {
 	for _, s := range alike {
 		lists = append(lists, s.Samples)
 	}
-	return api.Series{Labels: copyLabels(alike[0].Labels), Samples: joinSamples(lists)}
+	return api.Series{Labels: batch.CopyLabels(alike[0].Labels), Samples: joinSamples(lists)}
 }
 
 func joinSamples(lists [][]api.Sample) []api.Sample {
@@ -51,12 +50,3 @@ func compareSeries(a, b api.Series) int { return batch.CompareLabels(a.Labels, b
 func compareTimes(a, b api.Sample) int { return cmp.Compare(a.Time, b.Time) }
 
 func compareBits(a, b api.Sample) int { return cmp.Compare(a.Bits, b.Bits) }
-
-// copyLabels copies the texts too, for the join must not hold on to a greater text of which they are a part.
-func copyLabels(labels []api.Label) []api.Label {
-	copied := make([]api.Label, 0, len(labels))
-	for _, l := range labels {
-		copied = append(copied, api.Label{Key: strings.Clone(l.Key), Value: strings.Clone(l.Value)})
-	}
-	return copied
-}
